@@ -67,6 +67,49 @@ func TestNoEnterPanicsAndErrorsComeAlone(t *testing.T) {
 	}
 }
 
+func hardNumbers() []int {
+	return []int{0, 1, -1, 2, 127, 128, -128, -129, 255, 256, api.MaxTick, api.MaxTick + 1, api.Size, api.Size + 1, api.MaxSeq, api.MaxSeq + 1, api.MaxTime, api.MaxTime + 1, math.MaxInt, math.MinInt, math.MaxInt / 256, math.MinInt / 256}
+}
+
+func TestNoPosePanicsAndErrorsComeAlone(t *testing.T) {
+	numbers := hardNumbers()
+	for _, first := range numbers {
+		for _, second := range numbers {
+			for _, time := range numbers {
+				c := at(second, first, time)
+				for _, l := range [][]api.Record{{{Tick: first}, {Tick: second}}, {{Tick: first, At: c}}, {{Tick: 1}, {Tick: first, At: c}, {Tick: second}}} {
+					p, e := rewind.Pose(l, time)
+					if e != api.OK && (e != api.ErrArg || p != at(0, 0, 0)) {
+						t.Errorf("P1: Pose(%v, %d) = %v, %d", l, time, p, e)
+					}
+				}
+			}
+		}
+	}
+}
+
+func TestNoPacketPanicsAndErrorsComeAlone(t *testing.T) {
+	numbers := hardNumbers()
+	for _, a := range numbers {
+		for _, b := range numbers {
+			for _, c := range numbers {
+				command := api.Command{Seq: a, Move: at(b, c, 0), Aim: at(0, b, c), Time: c}
+				p, e := rewind.Encode(command)
+				if e != api.OK && (e != api.ErrArg || p != "") || e == api.OK && len(p) != api.PacketSize {
+					t.Errorf("P1: Encode(%v) = %x, %d", command, p, e)
+				}
+			}
+		}
+	}
+	for _, p := range hardTexts() {
+		want := api.ErrPacket
+		if len(p) > api.PacketSize {
+			want = api.ErrLong
+		}
+		refuseDecode(t, p, want)
+	}
+}
+
 // answers asks every call that is built one question after the other, in the order given, and tells the answers in the order of the questions.
 func answers(texts []string, points []api.Point, order []int) []string {
 	l := make([]string, len(order))
@@ -76,7 +119,10 @@ func answers(texts []string, points []api.Point, order []int) []string {
 		zone, zoneError := rewind.Zone(m, p)
 		in, up, low, enterError := rewind.Enter(d, p, at(0, 0, 0), p)
 		struck, solidUp, solidLow, traceError := rewind.Trace(m, p, d)
-		l[i] = fmt.Sprint(checked, place, zone, zoneError, in, up, low, enterError, struck, solidUp, solidLow, traceError)
+		stood, poseError := rewind.Pose([]api.Record{{Tick: 3, At: p}, {Tick: 5, At: d}}, i)
+		packet, encodeError := rewind.Encode(api.Command{Seq: i, Fire: i%3 == 0, Move: at(i%300-128, 1, 2), Aim: at(-1, -2, -3), Time: 7 * i})
+		command, decodeError := rewind.Decode(packet)
+		l[i] = fmt.Sprint(checked, place, zone, zoneError, in, up, low, enterError, struck, solidUp, solidLow, traceError, stood, poseError, packet, encodeError, command, decodeError)
 	}
 	return l
 }

@@ -4,6 +4,8 @@ package rewind
 import (
 	"rewind/api"
 	"rewind/chart"
+	"rewind/packet"
+	"rewind/past"
 	"rewind/space"
 )
 
@@ -62,13 +64,22 @@ func Trace(m string, p api.Point, d api.Point) (bool, int, int, api.Errno) {
 }
 
 // Pose tells where something stood at a time (P7).
-func Pose(l []api.Record, t int) (api.Point, api.Errno) { return api.Point{}, api.OK }
+func Pose(l []api.Record, t int) (api.Point, api.Errno) {
+	if !past.Fits(l, t) {
+		return api.Point{}, api.ErrArg
+	}
+	return past.Pose(l, t), api.OK
+}
 
 // Encode writes a command as a packet (P8).
-func Encode(c api.Command) (string, api.Errno) { return "", api.OK }
+func Encode(c api.Command) (string, api.Errno) {
+	return packet.Encode(c)
+}
 
 // Decode reads a packet (P9).
-func Decode(p string) (api.Command, api.Errno) { return api.Command{}, api.OK }
+func Decode(p string) (api.Command, api.Errno) {
+	return packet.Decode(p)
+}
 
 // New makes a server (P10).
 func New(m string) (*Server, api.Errno) { return nil, api.OK }
