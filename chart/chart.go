@@ -6,8 +6,11 @@ import (
 	"rewind/space"
 )
 
-// solid stands for the zone of a leaf that has none.
-const solid = -1
+// zones is how many zones a map can name, and solid stands for the zone of a leaf that has none.
+const (
+	zones = 8
+	solid = -1
+)
 
 // leaf is a leaf of a tree.
 type leaf struct {
@@ -15,9 +18,18 @@ type leaf struct {
 	zone   int
 }
 
-// Map is a map's leaves, in the order of its text.
+// Map is a map's leaves, in the order of its text, and its pairs of zones, each in both orders.
 type Map struct {
 	leaves []leaf
+	paired [zones][zones]bool
+}
+
+// Sees tells whether two zones see each other.
+func (m Map) Sees(a int, b int) bool {
+	if a < 0 || a >= zones || b < 0 || b >= zones {
+		return false
+	}
+	return a == b || m.paired[a][b]
 }
 
 // Zone is the zone of a point of the cube, or -1 if it is solid.

@@ -5,11 +5,8 @@ import (
 	"rewind/space"
 )
 
-// zones is how many zones a map can name, and hexBase the base of a plane's number.
-const (
-	zones   = 8
-	hexBase = 16
-)
+// hexBase is the base of a plane's number.
+const hexBase = 16
 
 // none stands for the number of a plane, where there is no such plane.
 const none = -1
@@ -20,7 +17,7 @@ type reader struct {
 	place  int // of the byte that is read next
 	planes int // how many have been read
 	wrong  int // the number of the first plane that does not lie inside its region
-	leaves []leaf
+	found  Map // what the text has told so far
 }
 
 // Read reads a map. With an error it tells the place of the wrong byte or the number of the wrong plane.
@@ -36,7 +33,7 @@ func Read(text string) (Map, api.Errno, int) {
 	if r.wrong != none {
 		return Map{}, api.ErrPlane, r.wrong
 	}
-	return Map{leaves: r.leaves}, api.OK, 0
+	return r.found, api.OK, 0
 }
 
 // readMap reads the whole text. Like all that read here, it answers false if it could not go on at place.
@@ -72,7 +69,7 @@ func (r *reader) readTree(region space.Box, above int) bool {
 		}
 		zone = digit
 	}
-	r.leaves = append(r.leaves, leaf{region: region, zone: zone})
+	r.found.leaves = append(r.found.leaves, leaf{region: region, zone: zone})
 	return true
 }
 
@@ -114,12 +111,17 @@ func (r *reader) readPair() bool {
 		return false
 	}
 	r.place++
-	_, ok := r.readDigit(zones)
+	a, ok := r.readDigit(zones)
 	if !ok {
 		return false
 	}
-	_, ok = r.readDigit(zones)
-	return ok
+	b, ok := r.readDigit(zones)
+	if !ok {
+		return false
+	}
+	r.found.paired[a][b] = true
+	r.found.paired[b][a] = true
+	return true
 }
 
 // readDigit reads a digit whose value is below base.

@@ -4,13 +4,16 @@ package rewind
 import (
 	"rewind/api"
 	"rewind/chart"
+	"rewind/game"
 	"rewind/packet"
 	"rewind/past"
 	"rewind/space"
 )
 
 // Server is a game on a map, and what it keeps.
-type Server struct{}
+type Server struct {
+	game game.Game
+}
 
 // Check tells whether a text is a map (P3).
 func Check(m string) (api.Errno, int) {
@@ -82,22 +85,58 @@ func Decode(p string) (api.Command, api.Errno) {
 }
 
 // New makes a server (P10).
-func New(m string) (*Server, api.Errno) { return nil, api.OK }
+func New(m string) (*Server, api.Errno) {
+	c, e, _ := chart.Read(m)
+	if e != api.OK {
+		return nil, e
+	}
+	return &Server{game: game.New(c)}, api.OK
+}
 
 // Now tells the tick (P10).
-func (s *Server) Now() int { return 0 }
+func (s *Server) Now() int {
+	if s == nil {
+		return 0
+	}
+	return s.game.Now()
+}
 
 // Connect gives a client a slot (P11).
-func (s *Server) Connect(p api.Point) (int, api.Errno) { return 0, api.OK }
+func (s *Server) Connect(p api.Point) (int, api.Errno) {
+	if s == nil {
+		return 0, api.ErrServer
+	}
+	return s.game.Connect(p)
+}
 
 // Disconnect takes a client's slot from it (P11).
-func (s *Server) Disconnect(slot int) api.Errno { return api.OK }
+func (s *Server) Disconnect(slot int) api.Errno {
+	if s == nil {
+		return api.ErrServer
+	}
+	return s.game.Disconnect(slot)
+}
 
 // Packet takes a client's packet (P12).
-func (s *Server) Packet(slot int, p string) api.Errno { return api.OK }
+func (s *Server) Packet(slot int, p string) api.Errno {
+	if s == nil {
+		return api.ErrServer
+	}
+	return s.game.Packet(slot, p)
+}
 
 // Tick plays one tick (P13).
-func (s *Server) Tick() api.Errno { return api.OK }
+func (s *Server) Tick() api.Errno {
+	if s == nil {
+		return api.ErrServer
+	}
+	return s.game.Tick()
+}
 
 // Snapshot tells a client what it may know (P14).
-func (s *Server) Snapshot(slot int) (string, api.Errno) { return "", api.OK }
+func (s *Server) Snapshot(slot int) (string, api.Errno) {
+	if s == nil {
+		return "", api.ErrServer
+	}
+	return s.game.Snapshot(slot)
+}

@@ -32,6 +32,26 @@ func (b Box) Holds(p api.Point) bool {
 		b.Lo.Z <= p.Z && p.Z <= b.Hi.Z
 }
 
+// Nearest is, on each axis, the coordinate of b that is nearest to that of p. b is ordered.
+func (b Box) Nearest(p api.Point) api.Point {
+	return api.Point{
+		X: nearest(p.X, b.Lo.X, b.Hi.X),
+		Y: nearest(p.Y, b.Lo.Y, b.Hi.Y),
+		Z: nearest(p.Z, b.Lo.Z, b.Hi.Z),
+	}
+}
+
+// nearest is the number from lo to hi that is nearest to n.
+func nearest(n int, lo int, hi int) int {
+	if n < lo {
+		return lo
+	}
+	if n > hi {
+		return hi
+	}
+	return n
+}
+
 // Inside tells whether the plane at a coordinate of an axis ('x', 'y' or 'z') lies strictly between the borders of b.
 func (b Box) Inside(axis byte, at int) bool {
 	switch axis {
