@@ -12,6 +12,7 @@ type player struct {
 	health int
 	ammo   int
 	ready  int // the tick at which Cooldown ticks have gone by since its last shot; 0 if there was none
+	back   int // the tick at which it comes back, if it is dead
 	track  past.Track
 }
 
@@ -26,4 +27,14 @@ func (p *player) cooling(tick int) int {
 		return 0
 	}
 	return p.ready - tick
+}
+
+// hurt takes from its health, and at 0 it is dead.
+func (p *player) hurt(damage int, tick int) {
+	if damage < p.health {
+		p.health -= damage
+		return
+	}
+	p.health = 0
+	p.back = tick + api.Respawn
 }

@@ -12,21 +12,40 @@ func (g *Game) Tick() api.Errno {
 	}
 	g.tick++
 	for i := range g.seats {
-		g.obey(&g.seats[i])
+		g.bringBack(&g.seats[i])
+	}
+	obeyed := [api.Slots]api.Command{}
+	for i := range g.seats {
+		obeyed[i] = g.obey(&g.seats[i])
 	}
 	for i := range g.seats {
 		g.record(&g.seats[i].player)
 	}
+	for i := range obeyed {
+		if obeyed[i].Fire {
+			g.shoot(i, obeyed[i])
+		}
+	}
 	return api.OK
 }
 
-// obey takes the command of a client that has waited longest. If the player is dead, the command is lost.
-func (g *Game) obey(s *seat) {
+// bringBack gives a client whose player has been dead long enough a new one.
+func (g *Game) bringBack(s *seat) {
+	home := s.player.home
+	if s.taken && !s.player.live() && g.tick >= s.player.back {
+		s.enter(home)
+	}
+}
+
+// obey takes the command of a client that has waited longest, and is that command; all noughts, if none waited.
+// If the player is dead, the command is lost, and the answer is all noughts too.
+func (g *Game) obey(s *seat) api.Command {
 	c, some := s.take()
 	if !some || !s.player.live() {
-		return
+		return api.Command{}
 	}
 	g.move(&s.player, c.Move)
+	return c
 }
 
 // move lets a player walk, if nothing solid is in its way.
